@@ -11,7 +11,17 @@ INTERFACE = {
     "checks": {"check": ("program",), "checked": ("program",)},
     "straight": {"is_straight": ("thing",), "lengths": ("text",), "balance": ("text",), "spelled": ("text",),
                  "letter_at": ("text", "place")},
+    "shrinking": {"shrunk": ("text",), "written": ("word",), "joined": ("one", "other"), "repeated": ("text", "k"),
+                  "opposite": ("text",), "cut": ("text", "low", "high"), "rounds": ("text",),
+                  "same_word": ("one", "other"), "first_unlike": ("one", "other")},
+    "cancelling": {"reduced": ("text",), "net_product": ("one", "other"), "net_power": ("text", "k"),
+                   "is_reduced": ("text",), "alike": ("one", "other"), "is_cancelling": ("text", "thing"),
+                   "cancelling": ("text",)},
+    "places": {"places": ("program",)},
+    "runs": {"is_run": ("program", "thing"), "run_length": ("program", "rows"), "run_text": ("program", "rows"),
+             "least_run": ("program", "name"), "small_words": ("program", "name", "most")},
 }
+LIBRARY = {"heapq": {"heappop", "heappush"}}
 BUILTINS = {"len", "range", "enumerate", "zip", "min", "max", "sum", "abs", "sorted", "reversed", "int", "str", "bool",
             "list", "tuple", "dict", "set", "isinstance", "ord", "repr", "any", "all", "divmod", "super", "ValueError"}
 METHODS = {"append", "clear", "copy", "count", "endswith", "extend", "find", "get", "index", "insert", "isdigit",
@@ -43,6 +53,8 @@ class Interface(unittest.TestCase):
                 function = getattr(found, name)
                 self.assertEqual(function.__module__, f"undoneall.{module}")
                 self.assertEqual(tuple(inspect.signature(function).parameters), parameters)
+                tree = ast.parse((PACKAGE / f"{module}.py").read_text())
+                self.assertIn(name, {node.name for node in tree.body if isinstance(node, ast.FunctionDef)})
 
 
 class Rules(unittest.TestCase):
@@ -62,6 +74,9 @@ class Rules(unittest.TestCase):
             imports[path.stem] = []
             for node in ast.walk(tree):
                 if isinstance(node, ast.ImportFrom):
+                    if node.module in LIBRARY:
+                        self.assertLessEqual({alias.name for alias in node.names}, LIBRARY[node.module], path)
+                        continue
                     self.assertTrue(node.module.startswith("undoneall."), path)
                     stem = node.module.split(".")[1]
                     imports[path.stem].append(stem)

@@ -1,6 +1,6 @@
 """What is wrong with a program besides its form: names that are double or missing, returns that are not let."""
 
-from undoneall.errors import NotChecked
+from undoneall.errors import BadName, NotChecked
 from undoneall.programs import bodies_of, want_program
 
 
@@ -58,3 +58,11 @@ def checked(program):
     what = check(program)
     if what is not None:
         raise NotChecked(what)
+
+
+def want_name(program, name):
+    """The index of the procedure with a name; BadName if there is none."""
+    names = [procedure[0] for procedure in program[1]]
+    if not isinstance(name, str) or name not in names:
+        raise BadName("this is no name of a procedure")
+    return names.index(name)

@@ -89,8 +89,13 @@ def spelled(text):
     sizes = rule_sizes(text)
     if sizes[-1] > LONGEST_SPELLED:
         return None
+    return tuple(written_out(text, sizes))
+
+
+def written_out(text, sizes):
+    """The list of the letters of the last rule's word, sizes being the lengths of all rules' words."""
     if sizes[-1] == 0:
-        return ()
+        return []
     roots = _same_words(text, sizes)
     word = []
     waiting = [roots[-1]]
@@ -102,7 +107,7 @@ def spelled(text):
             waiting.extend([roots[rule[2]], roots[rule[1]]])
         else:
             waiting.extend([roots[rule[1]]] * rule[2])
-    return tuple(word)
+    return word
 
 
 def _same_words(text, sizes):
