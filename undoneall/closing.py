@@ -92,8 +92,6 @@ class Closing:
         seam.ends = tuple([CLOSED if side in sides else seam.ends[side] for side in SIDES])
         for side in sides:
             self.claims[side].append((uppers, seam, seam))
-            for upper in uppers:
-                self.parts.halves[side][upper] = CLOSED
         if seam.ends == LEAF:
             self.leaves.append(seam)
 
@@ -107,7 +105,6 @@ class Closing:
             # All of it is one run, or nothing.
             seam = self.parts.new_seam(LEAF, [(sign, k * times + self.rest[0][1]) for sign, k in row])
             self.parts.repeats[upper] = 1
-            self.parts.set_halves(upper, LEAF)
             self.parts.put_in(upper, seam)
             self.leaves.append(seam)
             self.claim(upper, seam, seam)
@@ -150,10 +147,10 @@ class Closing:
         if self.rest:
             half = parts.add_part((half, half), times - 1, parts.stands[upper], inner.kins, parts.new_seam(between, []))
             parts.repeats[upper] = 1
-            parts.set_halves(upper, (CLOSED, half))
+            parts.put_over(upper, (CLOSED, half))
             seam.ends = (CLOSED, inner.kins[LEFT])
         else:
             parts.repeats[upper] = times - 1
-            parts.set_halves(upper, (half, half))
+            parts.put_over(upper, (half, half))
             seam.ends = between
         parts.put_in(upper, seam)

@@ -1,51 +1,67 @@
 """How far the words of two rows of rules are the same."""
 
-from undoneall.rules import joined_rules, pieces
+from undoneall.rules import joined_rules, pieces, trimmed
 from undoneall.straight import rule_sizes
 from undoneall.turns import all_turns, symbol_rules
 
 
 def common_length(one, other):
-    """How many letters the words of two rows of rules have in common from their beginnings on.
-
-    The shrunk text of both words, one behind the other, makes the same symbols of the same letters, but for some at the
-    borders: so both words are gone through by symbols, and only where these are unlike by what they are made of.
-    """
-    sizes = (rule_sizes(one)[-1], rule_sizes(other)[-1])
-    most = min(sizes)
+    """How many letters the words of two rows of rules have in common from their beginnings on."""
+    size = rule_sizes(one)[-1]
+    most = min(size, rule_sizes(other)[-1])
     if most == 0:
         return 0
-    letters, turns = all_turns(joined_rules(one, other), None)
+    kept = trimmed(joined_rules(one, other))
+    # Words that are put together alike are soon seen to be the same; others may take far too many steps.
+    found = walked(kept, [(kept[-1][1], 1)], [(kept[-1][2], 1)], most, 2 * len(kept))
+    if found is not None:
+        return found
+    # The shrunk text of both words, one behind the other, has the same symbols for the same letters, but for some at
+    # the borders: so there it takes few steps.
+    letters, turns = all_turns(kept, None)
     text = symbol_rules(letters, turns)
-    lengths = rule_sizes(text)
     whole = len(text) - 1
-    left = [(whole, 1)]
-    right = pieces(text, lengths, whole, sizes[0], lengths[-1])[::-1]
+    sizes = rule_sizes(text)
+    return walked(text, [(whole, 1)], pieces(text, sizes, whole, size, sizes[-1])[::-1], most, None)
+
+
+def walked(text, left, right, most, steps):
+    """How many letters of most are the same in two rows, None if that takes more steps; None sets no bound to them.
+
+    A row is told from its end to its beginning by pairs of a rule and how often its word stands there. Where it begins
+    with unlike rules, the one that may have the other as its beginning is opened.
+    """
+    sizes = rule_sizes(text)
     common = 0
+    done = 0
     while common < most:
         x, many = left[-1]
         y, more = right[-1]
         if x == y:
             both = min(many, more)
-            common += both * lengths[x]
+            common += both * sizes[x]
             take(left, both)
             take(right, both)
         elif text[x][0] == "letter" and text[y][0] == "letter":
             return common
+        elif done == steps:
+            return None
         else:
-            open_last(text, left if x > y else right)
+            done += 1
+            is_left = text[y][0] == "letter" or (text[x][0] != "letter" and x > y)
+            open_last(text, left if is_left else right)
     return most
 
 
 def take(row, many):
-    """Take so many words of the last rule from the end of a row of pairs of a rule and how often it stands."""
+    """Take so many words of the last rule from the end of a row."""
     at, k = row.pop()
     if k > many:
         row.append((at, k - many))
 
 
 def open_last(text, row):
-    """Put what the last rule is made of in the place of the last word of a row that is turned round."""
+    """Put what the last rule is made of in the place of the last word of a row."""
     rule = text[row[-1][0]]
     take(row, 1)
     if rule[0] == "pair":

@@ -46,14 +46,13 @@ def joined_runs(one, other):
 class Parts:
     """The parts of a word, their kins and their seams.
 
-    For each side and each part: halves tells its half there, over the parts whose half there it is, kins its kin
-    there, bulks how much there is to do if it gets another one. For each side and kin, heads tells the seam that its
-    parts show. repeats tells how often a part's seam stands in the part, stands how often the part stands in the word.
-    The last rule's part is the whole; behind it are two parts for what is between it and the ends of the row.
+    For each side and each part: over tells the parts whose half there it is, kins its kin there, bulks how much there
+    is to do if it gets another one. For each side and kin, heads tells the seam that its parts show. repeats tells how
+    often a part's seam stands in the part, stands how often the part stands in the word. The last rule's part is the
+    whole; behind it are two parts for what is between it and the ends of the row.
     """
 
     def __init__(self):
-        self.halves = ([], [])
         self.over = ([], [])
         self.kins = ([], [])
         self.bulks = ([], [])
@@ -112,19 +111,17 @@ class Parts:
         self.repeats.append(repeats)
         self.stands.append(stands)
         for side in SIDES:
-            self.halves[side].append(CLOSED)
             self.over[side].append([])
             self.kins[side].append(kins[side])
             self.bulks[side].append(0)
         self.seams.append(seam)
-        self.set_halves(part, halves)
+        self.put_over(part, halves)
         self.put_in(part, seam)
         return part
 
-    def set_halves(self, part, halves):
-        """Give a part these halves."""
+    def put_over(self, part, halves):
+        """Put a part over its halves, as far as these are not closed."""
         for side in SIDES:
-            self.halves[side][part] = halves[side]
             if halves[side] >= 0:
                 self.over[side][halves[side]].append(part)
 

@@ -20,15 +20,14 @@ def all_turns(rules, most):
     TooGreat is raised if that takes more symbols than most, those of the letters among them; None sets no bound.
     """
     kept = trimmed(rules)
-    if not kept:
-        return ([], [])
     letters = sorted([letter_rank(rule[1]) for rule in kept if rule[0] == "letter"])
-    row = Row(kept, None if most is None else most - len(letters))
     turns = []
-    while row.length > 1:
-        turns.append(("blocks", row.blocks()))
-        if row.length > 1:
-            turns.append(("pairs", *row.pairs()))
+    if kept:
+        row = Row(kept, None if most is None else most - len(letters))
+        while row.length > 1:
+            turns.append(("blocks", row.blocks()))
+            if row.length > 1:
+                turns.append(("pairs", *row.pairs()))
     return (letters, turns)
 
 
@@ -142,19 +141,16 @@ def count_neighbours(seam, outer, counts):
 def left_side(counts):
     """For each symbol whether it is on the left side, by how often each two stand side by side."""
     lower = {}
-    for (x, y), count in counts.items():
-        lower.setdefault(min(x, y), [])
-        lower.setdefault(max(x, y), []).append((min(x, y), count))
+    for pair, count in counts.items():
+        low, high = pair if pair[0] < pair[1] else (pair[1], pair[0])
+        lower.setdefault(low, [])
+        lower.setdefault(high, []).append((low, count))
     left = {}
     for sign in sorted(lower):
-        with_left = sum([count for other, count in lower[sign] if left[other]])
-        with_right = sum([count for other, count in lower[sign] if not left[other]])
-        left[sign] = with_left <= with_right
-    forward = sum([count for (x, y), count in counts.items() if left[x] and not left[y]])
-    backward = sum([count for (x, y), count in counts.items() if left[y] and not left[x]])
-    if forward < backward:
-        return {sign: not left[sign] for sign in left}
-    return left
+        # How many more neighbourhoods it has with the left side than with the right one.
+        left[sign] = sum([count if left[other] else -count for other, count in lower[sign]]) <= 0
+    lead = sum([count if left[x] else -count for (x, y), count in counts.items() if left[x] != left[y]])
+    return {sign: not left[sign] for sign in left} if lead < 0 else left
 
 
 def loosened_signs(seam, outer, left):
