@@ -3,6 +3,7 @@
 KEPT_WORDS = ("call", "choose", "do", "ensure", "finally", "letters", "loop", "or", "proc", "return", "undo")
 RETURN = ("return",)
 DO = ("do", "a")
+UNDO = ("undo", "a")
 
 # Objects that are no tuple, no integer, or neither, to stand in the place of any part.
 STRANGE = (None, True, False, 0, 1, -1, 2, 10 ** 50, "", "a", "main", "do", b"a", [], ["a"], ["do", "a"], {}, {"a": 1},
@@ -12,6 +13,12 @@ STRANGE = (None, True, False, 0, 1, -1, 2, 10 ** 50, "", "a", "main", "do", b"a"
 def main_only(*body):
     """A program of the letter a and the procedure main with this body."""
     return (("a",), (("main", tuple(body)),))
+
+
+def with_places(many):
+    """A program of one procedure with so many places, most of them of a second body that ten returns do."""
+    second = (DO,) * ((many - 1) // 11)
+    return main_only(("ensure", (RETURN,) * 10, second), *((UNDO,) * ((many - 1) % 11)))
 
 
 def chain(many, last=DO):

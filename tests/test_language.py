@@ -20,6 +20,15 @@ INTERFACE = {
     "places": {"places": ("program",)},
     "runs": {"is_run": ("program", "thing"), "run_length": ("program", "rows"), "run_text": ("program", "rows"),
              "least_run": ("program", "name"), "small_words": ("program", "name", "most")},
+    "residues": {"useful": ("program", "name"), "residue": ("program", "name"), "is_table": ("program", "name",
+                                                                                             "thing"),
+                 "is_two": ("program", "name", "thing")},
+    "standing": {"is_beginning": ("program", "name", "thing"), "is_wrong": ("program", "name", "thing"),
+                 "is_keeping": ("program", "name", "thing"), "is_endless": ("program", "name", "thing"),
+                 "stands": ("program", "name", "beginning"), "keeps": ("program", "name"),
+                 "standing": ("program", "name")},
+    "steps": {"stepped": ("program", "step"), "replayed": ("program", "log"), "tidied": ("program",)},
+    "whole": {"settled": ("text",), "compared": ("text", "other")},
 }
 LIBRARY = {"heapq": {"heappop", "heappush"}}
 BUILTINS = {"len", "range", "enumerate", "zip", "min", "max", "sum", "abs", "sorted", "reversed", "int", "str", "bool",

@@ -7,21 +7,14 @@ from undoneall.places import places
 from undoneall.programs import read_program
 from undoneall.runs import is_run, least_run, run_length, run_text, small_words
 from tests.plain_runs import TooMany, programs_by_chance, runs_by_places, runs_by_text
-from tests.samples import DO, NESTED, RETURN, STRANGE, main_only
+from tests.samples import DO, NESTED, RETURN, STRANGE, UNDO, main_only, with_places
 
 END = ("end",)
-UNDO = ("undo", "a")
 
 
 def first_laid(body, letters="a", more=""):
     """The layout of the first procedure of a program that is told by its text."""
     return places(read_program(f"letters {letters} ; proc main {{ {body} }} {more}"))[0]
-
-
-def with_places(many):
-    """A program of one procedure with so many places, most of them of a second body that ten returns do."""
-    second = (DO,) * ((many - 1) // 11)
-    return main_only(("ensure", (RETURN,) * 10, second), *((UNDO,) * ((many - 1) % 11)))
 
 
 class Statements(unittest.TestCase):

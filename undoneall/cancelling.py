@@ -3,7 +3,7 @@
 from undoneall.errors import BadCount, TooGreat
 from undoneall.kinds import is_integer, is_row
 from undoneall.nets import Nets
-from undoneall.rules import joined_rules, opposite_rules, reached, repeated_rules, trimmed
+from undoneall.rules import joined_rules, opposite_rules, repeated_rules, trimmed
 from undoneall.shrinking import shrunk_rules
 from undoneall.straight import is_straight, want_straight
 
@@ -33,7 +33,7 @@ def _shrunk_net(rules):
     """The shrunk text of the net of the word of some rules."""
     nets = Nets()
     net, _ = nets.of_rules(rules)[-1]
-    return shrunk_rules(reached(nets.rules, net))
+    return shrunk_rules(nets.text_of(net))
 
 
 def is_reduced(text):
@@ -71,7 +71,7 @@ def cancelling(text):
     # The last nets are the longest as a rule: so what is too great is found early.
     for net, _ in reversed(found):
         if net not in shrunk_nets:
-            shrunk_nets[net] = shrunk_rules(reached(nets.rules, net))
+            shrunk_nets[net] = shrunk_rules(nets.text_of(net))
     return tuple([(shrunk_nets[net], cut) for net, cut in found])
 
 
@@ -88,7 +88,7 @@ def is_cancelling(text, thing):
     for at in reversed(range(len(found))):
         net, _ = found[at]
         if net not in shrunk_nets:
-            shrunk_nets[net] = _shrunk_or_none(reached(nets.rules, net))
+            shrunk_nets[net] = _shrunk_or_none(nets.text_of(net))
         if shrunk_nets[net] != thing[at][0]:
             return False
     return True

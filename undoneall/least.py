@@ -42,8 +42,14 @@ def least_choice(layout, lengths, at):
 
 def least_rows(layout, lengths, start):
     """The rows of a run from a place that passes as few places as any."""
-    used = {start: True}
-    waiting = [start]
+    rows, _ = least_rows_of(layout, lengths, [start])
+    return tuple(rows)
+
+
+def least_rows_of(layout, lengths, starts):
+    """The list of the rows of runs from places that pass as few places as any, and for each place its row's index."""
+    used = {start: True for start in starts}
+    waiting = list(used)
     while waiting:
         at = waiting.pop()
         for part in next_places(layout, at[0], at[1])[least_choice(layout, lengths, at)]:
@@ -58,7 +64,7 @@ def least_rows(layout, lengths, start):
         which = least_choice(layout, lengths, at)
         parts = next_places(layout, at[0], at[1])[which]
         rows.append((at[0], at[1], which, tuple([numbers[part] for part in parts])))
-    return tuple(rows)
+    return (rows, numbers)
 
 
 def least_around(layout, lengths, start):

@@ -28,6 +28,10 @@ class Nets:
             self.ends.append(ends)
         return self.known[rule]
 
+    def letter(self, x):
+        """The word of one letter."""
+        return self.keep(("letter", x), 1, (x, x))
+
     def pair(self, one, other):
         """The word of one rule and behind it that of the other."""
         if one == EMPTY:
@@ -123,16 +127,30 @@ class Nets:
             if rule[0] == "none":
                 found.append((EMPTY, 0))
             elif rule[0] == "letter":
-                found.append((self.keep(rule, 1, (rule[1], rule[1])), 0))
+                found.append((self.letter(rule[1]), 0))
             elif rule[0] == "pair":
                 found.append(self.product(found[rule[1]][0], found[rule[2]][0]))
             else:
                 found.append(self.repeated(found[rule[1]][0], rule[2]))
         return found
 
+    def product_of_all(self, row):
+        """The net of many nets, one behind the other."""
+        # Put together two by two, so that no net is made of a long line of rules.
+        while len(row) > 1:
+            found = [self.product(row[at], row[at + 1])[0] for at in range(0, len(row) - 1, 2)]
+            if len(row) > 2 * len(found):
+                found.append(row[-1])
+            row = found
+        return row[0] if row else EMPTY
+
+    def text_of(self, at):
+        """The rules of a net alone, from which its word can be told."""
+        return reached(self.rules, at)
+
     def are_equal(self, one, other):
         """Whether two nets are the same word."""
         size = self.sizes[one]
         if size != self.sizes[other]:
             return False
-        return one == other or common_length(reached(self.rules, one), reached(self.rules, other)) == size
+        return one == other or common_length(self.text_of(one), self.text_of(other)) == size
