@@ -265,6 +265,10 @@ class Judges(unittest.TestCase):
         other = tuple((1, *row[1:]) for row in once)
         self.assertIs(is_two(program, "p", (other, other[:2])), True)
         self.assertIs(is_two(program, "main", (other, other[:2])), False)
+        program = (("a",), (("main", (("loop", (DO,)),)), ("p", (("loop", (DO,)),))))
+        self.assertIs(is_two(program, "p", (other, other[:2])), True)
+        self.assertIs(is_two(program, "main", (other, other[:2])), False)
+        self.assertIs(is_two(program, "main", (once, other[:2])), False)
 
     def test_long_runs(self):
         program = read_program("letters a b ; proc main { choose { do a ; } or { call main ; do b ; call main ; } }")

@@ -294,6 +294,10 @@ class Prunes(Stepping):
                 self.is_not_let(program, self.prune((0, 1, 0), 0), self.prune((0, 1, 0), 2))
             else:
                 self.is_let(program, self.prune((0, 1, 0), 0), ("ensure", body, (choose((NEVER,), (UNDO,)),)))
+        # The return is never come to, but the second body is passed by the body's end.
+        program = two_letters(("ensure", (choose((NEVER, RETURN), ()),), (inner,)), more=more)
+        self.is_not_let(program, self.prune((0, 1, 0), 0), self.prune((0, 1, 0), 2))
+        self.assertNotEqual(stepped(program, self.prune((0, 1, 0), 1)), program)
         # A nested one: the outer second body is passed by its return.
         outer = ("ensure", (("ensure", (RETURN,), (inner,)), DO), (inner,))
         program = two_letters(outer, more=more)

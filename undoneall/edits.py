@@ -9,7 +9,7 @@ LONGEST_PATH = 23
 
 def place_of(body, path):
     """The body in which the statement stands to which a path leads from a procedure's body, and its index; or None."""
-    if not is_row(path, 1, LONGEST_PATH) or (len(path) & 1) == 0:
+    if not is_row(path, 1, LONGEST_PATH):
         return None
     for at in range(0, len(path), 2):
         if not is_within(path[at], 0, len(body) - 1):

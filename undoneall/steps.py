@@ -113,7 +113,7 @@ def _judged_step(program):
     chooses = [entry for entry in statements if entry[2][0] == "choose" and len(entry[2][1]) > 2]
     if not loops and not chooses:
         return None
-    verdicts = Verdicts(program, [loop[1] for _, _, loop in loops])
+    verdicts = Verdicts(program, [entry[2][1] for entry in loops])
     names = [procedure[0] for procedure in program[1]]
     for number, (name, path, _) in enumerate(loops):
         if verdicts.is_still(number):
