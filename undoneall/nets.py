@@ -11,13 +11,17 @@ FEW = 50
 
 
 class Nets:
-    """Rules of nets, each known by its index; sizes are the lengths of their words, ends the first and last letters."""
+    """Rules of nets, each known by its index; sizes are the lengths of their words, ends the first and last letters.
+
+    known has the index of each rule, products what is known of two nets one behind the other.
+    """
 
     def __init__(self):
         self.rules = [NOTHING]
         self.sizes = [0]
         self.ends = [None]
         self.known = {NOTHING: EMPTY}
+        self.products = {}
 
     def keep(self, rule, size, ends):
         """The index of a rule, which is put behind the others if it is not known."""
@@ -110,8 +114,11 @@ class Nets:
 
     def product(self, one, other):
         """The net of one net and behind it the other, and how many letters of each fall away."""
-        cut = self.undone(one, other)
-        return (self.pair(self.head(one, self.sizes[one] - cut), self.tail(other, self.sizes[other] - cut)), cut)
+        if (one, other) not in self.products:
+            cut = self.undone(one, other)
+            net = self.pair(self.head(one, self.sizes[one] - cut), self.tail(other, self.sizes[other] - cut))
+            self.products[(one, other)] = (net, cut)
+        return self.products[(one, other)]
 
     def repeated(self, at, k):
         """The net of a net k times, k from 2 on, and how many letters it begins with whose opposite it ends with."""
