@@ -405,15 +405,20 @@ class GoingWrong(unittest.TestCase):
             except TooGreat:
                 pass
 
-    def test_too_many_moves_may_be_needed(self):
-        program = (("a",), (("main", (("call", "p"), ("loop", (*((DO, UNDO) * 29), UNDO)))),
-                            ("p", (("call", "q"),) * 30),
-                            ("q", (DO,) * 22)))
-        self.assertGreater(counted(program, "main"), 60)
-        try:
-            self.check(program)
-        except TooGreat:
-            pass
+    def test_more_moves_are_needed_than_may_be(self):
+        pairs = (DO, UNDO) * 29
+        procedures = (("p", (("call", "q"),) * 30), ("q", (DO,) * 30))
+        for around in ((*pairs, UNDO), (("ensure", pairs, (*pairs, UNDO)), DO, UNDO, DO, UNDO)):
+            program = (("a",), (("main", (("call", "p"), ("loop", around))), *procedures))
+            self.assertGreater(counted(program, "main"), 60)
+            if len(around) > 10:
+                # Sixty moves around for each of nine hundred deeds.
+                self.assertGreater(sum(len(leg) for leg in self.check(program)[1]), 900 * 60)
+                continue
+            # There is none: each way around takes 121 moves or more and one deed.
+            for function in (keeps, standing):
+                with self.assertRaises(TooGreat):
+                    function(program, "main")
 
 
 class Endless(unittest.TestCase):
